@@ -1,0 +1,1 @@
+"""Elderhouse: a small language of houses, each with one elder at most."""
