@@ -1,4 +1,4 @@
-"""The rules of LANGUAGE.md that can be seen in the package's own files, one test for each."""
+"""Much of LANGUAGE.md, as far as it is easily seen in the package's own files; each test names its rules."""
 
 import ast
 import builtins
