@@ -79,6 +79,15 @@ def is_plain(value, known):
     return isinstance(value, ast.Constant) and not isinstance(value.value, (float, bytes))
 
 
+WALKERS = set("list tuple dict sorted sum any all enumerate zip min max".split())
+
+
+def is_walk(node):
+    if isinstance(node.func, ast.Name):
+        return node.func.id in ("zip", "enumerate", "reversed", "range")
+    return isinstance(node.func, ast.Attribute) and node.func.attr in ("items", "keys", "values")
+
+
 class Files(unittest.TestCase):
     def test_l1_l14_files_and_signs(self):
         self.assertIn("__init__", SOURCES)
@@ -207,6 +216,56 @@ class Inside(unittest.TestCase):
         pythons = {name for kind in (str, int, list, dict, set, bytes) for name in dir(kind)}
         self.assertEqual(values() & pythons - VALUE_NAMES, set())
         self.assertEqual(methods() & pythons - OWN_METHODS - DUNDERS - {"add", "discard"}, set())
+
+    def test_l13_l21_l24_l28_what_the_package_does_without(self):
+        for stem, node in nodes(ast.Set, ast.Name, ast.FunctionDef, ast.AnnAssign, ast.arg, ast.Call):
+            self.assertNotIsInstance(node, (ast.Set, ast.AnnAssign), (stem, node.lineno))
+            self.assertIsNone(getattr(node, "annotation", None) or getattr(node, "returns", None), (stem, node.lineno))
+            if isinstance(node, ast.Name):
+                self.assertNotIn(node.id, ("set", "frozenset"), (stem, node.lineno))
+        self.assertEqual(methods() & DUNDERS - {"__init__"}, set())
+        for stem, node in nodes(ast.FunctionDef):
+            if node.name == "__init__":
+                self.assertFalse([one for one in ast.walk(node) if isinstance(one, ast.Return)], (stem, node.lineno))
+        lines = [(stem, node.lineno) for stem, node in nodes(ast.Lambda)]
+        self.assertEqual(len(lines), len(set(lines)))
+
+    def test_l19_errors(self):
+        own = {node.name for node in TREES["errors"].body[1:]}
+        for stem, node in nodes(ast.ExceptHandler):
+            self.assertIn(node.type.id, own | {"KeyError"}, (stem, node.lineno))
+        for stem, node in nodes(ast.Raise):
+            self.assertIn(node.exc.func.id, own, (stem, node.lineno))
+            self.assertIsNone(node.cause, (stem, node.lineno))
+
+    def test_l22_pythons_own_are_called(self):
+        classes = set("int str bool list tuple dict".split())
+        for stem, tree in TREES.items():
+            known = [node.func for node in ast.walk(tree) if isinstance(node, ast.Call)]
+            known += [node.value for node in ast.walk(tree) if isinstance(node, ast.keyword) and node.arg == "key"]
+            for node in ast.walk(tree):
+                if isinstance(node, ast.Call) and isinstance(node.func, ast.Name) and node.func.id == "isinstance":
+                    named = node.args[1].elts if isinstance(node.args[1], ast.Tuple) else [node.args[1]]
+                    known += named
+                    for one in named:
+                        self.assertTrue(one.id in classes or one.id in top_names(tree), (stem, node.lineno))
+                elif isinstance(node, ast.ClassDef):
+                    known += node.bases
+            for node in ast.walk(tree):
+                if isinstance(node, ast.Name) and node.id in OWN_NAMES - {"ValueError", "KeyError"}:
+                    self.assertTrue(any(node is one for one in known), (stem, node.lineno, node.id))
+                if isinstance(node, ast.Call) and node.keywords:
+                    self.assertIn(node.func.id, "sorted min max sum enumerate zip".split(), (stem, node.lineno))
+
+    def test_l23_walked_at_once(self):
+        for stem, tree in TREES.items():
+            walked = [node.iter for node in ast.walk(tree) if isinstance(node, (ast.For, ast.comprehension))]
+            for node in ast.walk(tree):
+                if isinstance(node, ast.Call) and isinstance(node.func, ast.Name) and node.func.id in WALKERS:
+                    walked += node.args[:1]
+            for node in ast.walk(tree):
+                if isinstance(node, ast.Call) and is_walk(node):
+                    self.assertTrue(any(node is one for one in walked), (stem, node.lineno))
 
     def test_l27_texts(self):
         for stem, node in nodes(ast.Constant):
