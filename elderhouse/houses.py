@@ -43,9 +43,14 @@ class Hall:
         return None
 
     def head(self, house, word):
+        own = self.found_word(house, word)
+        if own is None:
+            return None
+        return (own.params, own.kind)
+
+    def found_word(self, house, word):
         where = self.found(house, word)
         if where is None:
             return None
         name, number = where
-        own = self.by_name[name].own_words[number]
-        return (own.params, own.kind)
+        return self.by_name[name].own_words[number]
