@@ -1,6 +1,8 @@
-"""What the signs tell of two numbers."""
+"""What the signs tell of two numbers, and the bounds that both ways of answering keep."""
 
 GREATEST = 1_000_000_000_000_000
+# How many calls may stand within each other.
+MOST_WITHIN = 40
 
 
 def two_told(sign, a, b):

@@ -1,10 +1,8 @@
 """Answering a program by walking its terms."""
 
 from elderhouse.houses import Hall
-from elderhouse.numbers import two_told
+from elderhouse.numbers import MOST_WITHIN, two_told
 from elderhouse.waits import Scope, Waits
-
-MOST_WITHIN = 40
 
 
 def walked(program, numbers, most=100):
