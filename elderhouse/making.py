@@ -41,7 +41,7 @@ class Maker:
         if house is not None:
             bound = ["self"] + bound
         rows = self.rows(word.body, kinds, bound, house) + [("back",)]
-        return (len(bound), most_bound(word.body, len(bound)), tuple(rows))
+        return (len(bound), most_bound(len(bound), rows), tuple(rows))
 
     # The kinds are those of the term and of all terms in it, each ahead of its parts.
     def rows(self, term, kinds, bound, house):
@@ -107,15 +107,6 @@ def last_slot(bound, name):
     return max([slot for slot, one in enumerate(bound) if one == name])
 
 
-# Without rows, since a slot is there for a let's last term also where no row loads it.
-def most_bound(term, many):
-    most = many
-    waiting = [(term, many)]
-    while waiting:
-        one, bound = waiting.pop()
-        most = max(most, bound)
-        parts = one.parts()
-        if one.form == "let":
-            waiting.append((parts.pop(), bound + 1))
-        waiting.extend([(part, bound) for part in parts])
-    return most
+# Each let keeps its value in the slot behind those that are bound where it stands: the last such slot tells the most.
+def most_bound(many, rows):
+    return max([many] + [row[1] + 1 for row in rows if row[0] == "keep"])

@@ -82,7 +82,8 @@ class Walk:
         elif term.form == "field":
             self.waits.know(self.inner_of(values[0])[self.place_in(values[0], term.label)])
         elif term.form == "set":
-            self.inner_of(values[0])[self.place_in(values[0], term.label)] = values[1]
+            inner = self.inner_of(values[0])
+            inner[self.place_in(values[0], term.label)] = values[1]
             self.waits.know(values[1])
         elif term.form == "call":
             self.call(self.house_of(values[0]), term.label, values[0], values[1:])
